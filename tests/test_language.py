@@ -1,0 +1,81 @@
+"""Tests of those rules of shared/LANGUAGE.md that a short look at the files can see."""
+
+import ast
+import builtins
+import pathlib
+import re
+import unittest
+
+PACKAGE = pathlib.Path(__file__).resolve().parent.parent / "wagerroom"
+
+# L8, without chr (L27).
+BUILTINS = set(
+    "len range enumerate zip min max sum abs sorted reversed int str bool bytes list tuple dict set"
+    " frozenset isinstance ord repr any all divmod iter next super property staticmethod classmethod"
+    " Exception ValueError TypeError KeyError IndexError LookupError ZeroDivisionError ArithmeticError"
+    " OverflowError RuntimeError NotImplementedError AttributeError StopIteration NotImplemented".split()
+)
+
+# L17.
+BARRED = re.compile(
+    r"\b(type|typing|typing_extensions|enum|Enum|IntEnum|StrEnum|Flag|IntFlag|Generic|Protocol|ABC|ABCMeta"
+    r"|namedtuple|NamedTuple|TypedDict|TYPE_CHECKING|abstractmethod)\b|dataclass|overload|contextmanager"
+)
+
+
+def sources():
+    """Each file of the package with its text and its tree."""
+    for path in sorted(PACKAGE.glob("*.py")):
+        text = path.read_bytes().decode("utf-8")
+        yield path.name, text, ast.parse(text)
+
+
+class LanguageTest(unittest.TestCase):
+
+    def test_the_folder_holds_only_python_files(self):
+        others = [path.name for path in PACKAGE.iterdir() if not re.fullmatch(r"[a-z0-9_]+\.py", path.name)]
+        self.assertEqual([name for name in others if name != "__pycache__"], [])
+        self.assertTrue((PACKAGE / "__init__.py").is_file())
+
+    def test_characters_and_lines(self):
+        for name, text, _ in sources():
+            with self.subTest(name):
+                self.assertIsNone(re.search(r"[^\n -~]", text))
+                self.assertLessEqual(text.count("\n"), 399)
+                self.assertLessEqual(max(map(len, text.split("\n"))), 120)
+
+    def test_functions_are_short(self):
+        for name, _, tree in sources():
+            for node in ast.walk(tree):
+                if isinstance(node, ast.FunctionDef):
+                    self.assertLessEqual(node.end_lineno - node.lineno + 1, 40, f"{name}: {node.name}")
+
+    def test_barred_words(self):
+        for name, text, _ in sources():
+            self.assertIsNone(BARRED.search(text), name)
+
+    def test_imports_are_from_the_package_at_the_top(self):
+        for name, _, tree in sources():
+            imports = [node for node in ast.walk(tree) if isinstance(node, (ast.Import, ast.ImportFrom))]
+            for node in imports:
+                self.assertIsInstance(node, ast.ImportFrom, name)
+                self.assertEqual(node.level, 0, name)
+                self.assertTrue(node.module.startswith("wagerroom."), f"{name}: {node.module}")
+                self.assertIn(node, tree.body, name)
+
+    def test_only_allowed_builtins(self):
+        for name, _, tree in sources():
+            for node in ast.walk(tree):
+                if isinstance(node, ast.Name) and hasattr(builtins, node.id):
+                    self.assertIn(node.id, BUILTINS, name)
+
+    def test_no_floats_and_no_division(self):
+        for name, _, tree in sources():
+            for node in ast.walk(tree):
+                self.assertNotIsInstance(node, ast.Div, name)
+                if isinstance(node, ast.Constant):
+                    self.assertNotIsInstance(node.value, (float, complex), name)
+
+
+if __name__ == "__main__":
+    unittest.main()
