@@ -22,6 +22,35 @@ BARRED = re.compile(
     r"|namedtuple|NamedTuple|TypedDict|TYPE_CHECKING|abstractmethod)\b|dataclass|overload|contextmanager"
 )
 
+# L25, and what stands behind the decorator of a property.
+METHODS = set(
+    "append clear copy count endswith extend find get index insert isalnum isalpha isdigit islower isspace"
+    " isupper items join keys ljust lower lstrip partition pop remove replace reverse rfind rjust rpartition"
+    " rsplit rstrip setdefault split splitlines startswith strip update upper values zfill bit_length"
+    " title capitalize swapcase casefold center expandtabs removeprefix removesuffix rindex isascii isdecimal"
+    " isnumeric istitle isidentifier isprintable add discard setter".split()
+)
+
+
+def methods_and_attributes():
+    """The names of the methods, properties included, and of the assigned attributes of the package."""
+    methods, attributes = set(), set()
+    for _, _, tree in sources():
+        for node in ast.walk(tree):
+            if isinstance(node, ast.ClassDef):
+                found = [row for row in node.body if isinstance(row, ast.FunctionDef)]
+                plain = [row.name for row in found if not any(map(is_property, row.decorator_list))]
+                methods.update(plain)
+                attributes.update(row.name for row in found if row.name not in plain)
+                attributes.update(row.targets[0].id for row in node.body if isinstance(row, ast.Assign))
+            elif isinstance(node, ast.Attribute) and isinstance(node.ctx, ast.Store):
+                attributes.add(node.attr)
+    return methods, attributes
+
+
+def is_property(decorator):
+    return isinstance(decorator, ast.Attribute) or decorator.id == "property"
+
 
 def sources():
     """Each file of the package with its text and its tree."""
@@ -68,6 +97,42 @@ class LanguageTest(unittest.TestCase):
             for node in ast.walk(tree):
                 if isinstance(node, ast.Name) and hasattr(builtins, node.id):
                     self.assertIn(node.id, BUILTINS, name)
+
+    def test_names_do_not_begin_with_an_underscore(self):
+        for name, _, tree in sources():
+            for node in ast.walk(tree):
+                for part in ("id", "attr", "arg", "name"):
+                    found = getattr(node, part, None)
+                    if isinstance(found, str) and found != "__init__":
+                        self.assertRegex(found, r"^[A-Za-z][A-Za-z0-9_]*$", name)
+
+    def test_attributes_are_assigned_by_the_package(self):
+        methods, attributes = methods_and_attributes()
+        for name, _, tree in sources():
+            for node in ast.walk(tree):
+                if isinstance(node, ast.Attribute):
+                    self.assertIn(node.attr, methods | attributes | METHODS, name)
+
+    def test_no_name_is_a_method_and_an_attribute(self):
+        methods, attributes = methods_and_attributes()
+        self.assertEqual(methods & attributes, set())
+
+    def test_imports_and_classes_keep_their_names(self):
+        for name, _, tree in sources():
+            bound = [alias.name for node in tree.body if isinstance(node, ast.ImportFrom) for alias in node.names]
+            bound += [node.name for node in tree.body if isinstance(node, (ast.ClassDef, ast.FunctionDef))]
+            self.assertEqual(len(bound), len(set(bound)), name)
+            for node in ast.walk(tree):
+                if isinstance(node, ast.arg):
+                    self.assertNotIn(node.arg, bound, name)
+                if isinstance(node, ast.Name) and isinstance(node.ctx, ast.Store):
+                    self.assertNotIn(node.id, bound, name)
+
+    def test_no_escapes_and_no_percent_signs_in_strings(self):
+        for name, _, tree in sources():
+            for node in ast.walk(tree):
+                if isinstance(node, ast.Constant) and isinstance(node.value, str):
+                    self.assertNotRegex(node.value, r"[^\n -$&-~]", name)
 
     def test_no_floats_and_no_division(self):
         for name, _, tree in sources():

@@ -71,3 +71,43 @@ def compare(one, other):
     if left > right:
         return 1
     return 0
+
+
+def is_positive_fraction(value):
+    """Return whether any value is a fraction above 0."""
+    return is_valid_fraction(value) and value[0] > 0
+
+
+def is_row(value, many):
+    """Return whether any value is a tuple of so many fractions."""
+    if not isinstance(value, tuple) or len(value) != many:
+        return False
+    return all([is_valid_fraction(entry) for entry in value])
+
+
+def negative(one):
+    """Return the fraction with the other sign."""
+    return (-one[0], one[1])
+
+
+def quotient(one, other):
+    """Return one divided by other, which is not 0."""
+    return fraction(one[0] * other[1], one[1] * other[0])
+
+
+def shares(values):
+    """Return the tuple of the fractions divided by their sum, which is not 0."""
+    whole = total(*values)
+    return tuple([quotient(value, whole) for value in values])
+
+
+def total_at(values, places):
+    """Return the sum of the fractions at these places."""
+    picked = [values[place] for place in places]
+    return total(*picked)
+
+
+def total_of_products(values, factors, places):
+    """Return the sum of value times factor over these places."""
+    products = [product(values[place], factors[place]) for place in places]
+    return total(*products)
