@@ -319,9 +319,6 @@ class EvenTest(ObserverCase):
         one.odds = ((1, 3), (2, 3))
         self.assert_alike(other.odds, (HALF, HALF))
 
-    def test_it_is_a_class_method(self):
-        self.assertIsInstance(vars(Observer)["even"], classmethod)
-
     def test_wrong_labels(self):
         for kind in CLASSES:
             for labels in WRONG_LABELS:
@@ -662,22 +659,31 @@ class ObserversInterfaceTest(ObserverCase):
             self.assertEqual(str(inspect.signature(kind)), parameters)
 
     def test_methods_stand_in_their_class(self):
-        wanted = {
-            Observer: {
-                "assign_odds": "(self, odds)",
-                "odds_of": "(self, event)",
-                "expects": "(self, amounts)",
-                "report": "(self, event)",
-                "same_as": "(self, other)",
-            },
-            Believer: {"assign_weights": "(self, weights)", "report": "(self, event)"},
-            Recorder: {"report": "(self, event)"},
-            Diarist: {"report": "(self, event)"},
+        common = {
+            "assign_odds": "(self, odds)",
+            "odds_of": "(self, event)",
+            "expects": "(self, amounts)",
+            "report": "(self, event)",
+            "same_as": "(self, other)",
         }
-        for kind, methods in wanted.items():
-            for name, parameters in methods.items():
+        with_odds = {**common, "__init__": "(self, labels, odds)"}
+        with_weights = {**common, "__init__": "(self, labels, weights)", "assign_weights": "(self, weights)"}
+        for kind in CLASSES:
+            for name, parameters in (with_weights if kind in WITH_WEIGHTS else with_odds).items():
+                self.assertIn(name, vars(kind), kind.__name__)
                 self.assertEqual(str(inspect.signature(vars(kind)[name])), parameters)
-        self.assertEqual(str(inspect.signature(Observer.even)), "(labels)")
+            self.assertIsInstance(vars(kind)["even"], classmethod)
+            self.assertEqual(str(inspect.signature(kind.even)), "(labels)")
+
+    def test_a_diarist_is_made_in_its_own_class(self):
+        diarist = Diarist((0, 0, 1), (1, 2, 3))
+        self.assert_alike(
+            (diarist.labels, diarist.parts, diarist.odds, diarist.weights, diarist.reports),
+            ((0, 0, 1), ((0, 1), (2,)), ((1, 3), (2, 3), ONE), (1, 2, 3), 0),
+        )
+        with self.assertRaises(TypeError):
+            Diarist((0, 0, 1))
+        self.assert_alike(Diarist(labels=(0,), weights=(7,)).weights, (7,))
 
     def test_attributes_are_there_from_the_beginning(self):
         for kind in CLASSES:

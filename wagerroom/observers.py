@@ -37,6 +37,16 @@ def weighed_odds(labels, weights):
     return tuple([fraction(weight, wholes[label]) for label, weight in zip(labels, weights)])
 
 
+def even_observer(labels):
+    """Return an Observer whose odds are equal within each part."""
+    check_labels(labels)
+    return Observer(labels, weighed_odds(labels, (1,) * len(labels)))
+
+
+# By rule L5 each of the four classes defines the methods that the interface
+# lists for it, also where it only passes them on to the class above.
+
+
 class Observer:
     """An observer with a partition of the cases and odds for the cases of each part."""
 
@@ -49,10 +59,8 @@ class Observer:
 
     @classmethod
     def even(cls, labels):
-        """Return an Observer whose odds are equal within each part."""
-        check_labels(labels)
-        # Not cls: it is an Observer on whichever class this is called.
-        return Observer(labels, weighed_odds(labels, (1,) * len(labels)))
+        """Return an Observer, whatever cls is, whose odds are equal within each part."""
+        return even_observer(labels)
 
     @property
     def odds(self):
@@ -109,6 +117,11 @@ class Believer(Observer):
         super().__init__(labels, weighed_odds(labels, weights))
         self.held_weights = weights
 
+    @classmethod
+    def even(cls, labels):
+        """Return an Observer, whatever cls is, whose odds are equal within each part."""
+        return even_observer(labels)
+
     @property
     def weights(self):
         """The weight of each case."""
@@ -124,6 +137,22 @@ class Believer(Observer):
         """Assign the weights, and with them the odds."""
         self.weights = weights
 
+    def assign_odds(self, odds):
+        """Assign the odds, and leave the weights."""
+        self.odds = odds
+
+    def odds_of(self, event):
+        """Return for each case the odds of the event in the part of this case."""
+        return super().odds_of(event)
+
+    def expects(self, amounts):
+        """Return for each part the sum of odds times amount over its cases."""
+        return super().expects(amounts)
+
+    def same_as(self, other):
+        """Return whether any value is an observer with equal labels and odds."""
+        return super().same_as(other)
+
     def report(self, event):
         """Return the lines of an Observer, and the share of the weights that the event has."""
         lines = self.part_lines(event)
@@ -137,6 +166,27 @@ class Recorder(Observer):
     def __init__(self, labels, odds):
         super().__init__(labels, odds)
         self.reports = 0
+
+    @classmethod
+    def even(cls, labels):
+        """Return an Observer, whatever cls is, whose odds are equal within each part."""
+        return even_observer(labels)
+
+    def assign_odds(self, odds):
+        """Assign the odds."""
+        self.odds = odds
+
+    def odds_of(self, event):
+        """Return for each case the odds of the event in the part of this case."""
+        return super().odds_of(event)
+
+    def expects(self, amounts):
+        """Return for each part the sum of odds times amount over its cases."""
+        return super().expects(amounts)
+
+    def same_as(self, other):
+        """Return whether any value is an observer with equal labels and odds."""
+        return super().same_as(other)
 
     def counted_line(self):
         """Count one more report and return the line that tells the count."""
@@ -152,6 +202,34 @@ class Recorder(Observer):
 
 class Diarist(Believer, Recorder):
     """A Believer that counts its reports."""
+
+    def __init__(self, labels, weights):
+        super().__init__(labels, weights)
+
+    @classmethod
+    def even(cls, labels):
+        """Return an Observer, whatever cls is, whose odds are equal within each part."""
+        return even_observer(labels)
+
+    def assign_weights(self, weights):
+        """Assign the weights, and with them the odds."""
+        self.weights = weights
+
+    def assign_odds(self, odds):
+        """Assign the odds, and leave the weights."""
+        self.odds = odds
+
+    def odds_of(self, event):
+        """Return for each case the odds of the event in the part of this case."""
+        return super().odds_of(event)
+
+    def expects(self, amounts):
+        """Return for each part the sum of odds times amount over its cases."""
+        return super().expects(amounts)
+
+    def same_as(self, other):
+        """Return whether any value is an observer with equal labels and odds."""
+        return super().same_as(other)
 
     def report(self, event):
         """Return the lines of a Believer, and the count of the reports."""
