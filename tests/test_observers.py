@@ -6,14 +6,15 @@ import unittest
 from fractions import Fraction
 
 from tests.helper import OTHER_KINDS, PromiseCase
-from tests.stand_in import AGREED, exact, numbers, pair_of, some_labels, weighed
+from tests.scenery import (
+    AGREED, CLASSES, exact, not_events, numbers, observer_state, pair_of, some_labels, subsets, weighed,
+)
 from wagerroom import observers
 from wagerroom.errors import (
     InvalidAmountsError, InvalidEventError, InvalidLabelsError, InvalidOddsError, InvalidWeightsError, RoomError,
 )
 from wagerroom.observers import Believer, Diarist, Observer, Recorder
 
-CLASSES = (Observer, Believer, Recorder, Diarist)
 WITH_ODDS = (Observer, Recorder)
 WITH_WEIGHTS = (Believer, Diarist)
 
@@ -132,36 +133,7 @@ WRONG_WEIGHTS = OTHER_KINDS + (
     (ONE,) * 5,
 )
 
-# Events that are wrong for five cases; () is the one of the other kinds that is an event.
-WRONG_EVENTS = tuple(value for value in OTHER_KINDS if value != ()) + (
-    0,
-    3,
-    (0, 0),
-    (1, 2, 2),
-    (1, 0),
-    (0, 2, 1),
-    (4, 3, 2, 1, 0),
-    (5,),
-    (0, 5),
-    (0, 1, 2, 3, 4, 5),
-    (10 ** 12,),
-    (-1,),
-    (-1, 0),
-    (-5,),
-    (True,),
-    (False,),
-    (0, True),
-    (False, 1),
-    (0, 1, None),
-    (0, "1"),
-    (0, (1,)),
-    ([0],),
-    [],
-    [0],
-    [0, 1],
-    {0: 1},
-    "01",
-)
+WRONG_EVENTS = not_events(5)
 
 AMOUNTS = ((3, 1), (-1, 2), (0, 1), (4, 3), (-7, 1))
 
@@ -187,23 +159,11 @@ WRONG_AMOUNTS = OTHER_KINDS + (
 )
 
 
-def subsets(many):
-    cases = range(many)
-    return [event for size in range(many + 1) for event in itertools.combinations(cases, size)]
-
-
 def one_of(kind, labels=LABELS):
     """An observer of this class with LABELS and ODDS, or with even weights for other labels."""
     if kind in WITH_WEIGHTS:
         return kind(labels, WEIGHTS if labels == LABELS else (1,) * len(labels))
     return kind(labels, ODDS if labels == LABELS else Observer.even(labels).odds)
-
-
-def state(observer):
-    return (
-        observer.labels, observer.parts, observer.odds,
-        getattr(observer, "weights", None), getattr(observer, "reports", None),
-    )
 
 
 def odds_by_hand(labels, odds, event):
@@ -222,9 +182,9 @@ class ObserverCase(PromiseCase):
 
     def stays(self, observer, error, function, *arguments):
         """The call raises this error and the observer stays as it was."""
-        before = state(observer)
+        before = observer_state(observer)
         self.refuses(error, function, *arguments)
-        self.assert_alike(state(observer), before, "after the error")
+        self.assert_alike(observer_state(observer), before, "after the error")
 
 
 def assigning(observer, name):
@@ -427,7 +387,7 @@ class EventTest(ObserverCase):
 
     def test_odds_of_each_event(self):
         for kind in CLASSES:
-            for event in subsets(5):
+            for event in subsets(range(5)):
                 self.gives(odds_by_hand(LABELS, ODDS, event), one_of(kind).odds_of, event)
 
     def test_examples(self):
@@ -448,7 +408,7 @@ class EventTest(ObserverCase):
 
     def test_report_of_each_event(self):
         for kind in CLASSES:
-            for event in subsets(5):
+            for event in subsets(range(5)):
                 observer = one_of(kind)
                 self.assert_alike(observer.report(event)[:3], lines_by_hand(observer, event))
 
@@ -580,7 +540,7 @@ class ReportTest(ObserverCase):
 
     def test_of_a_believer(self):
         believer = Believer(LABELS, WEIGHTS)
-        for event in subsets(5):
+        for event in subsets(range(5)):
             own = pair_of(Fraction(sum(WEIGHTS[case] for case in event), 12))
             self.gives(lines_by_hand(believer, event) + (("own", own),), believer.report, event)
 

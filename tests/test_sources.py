@@ -4,8 +4,8 @@ import itertools
 import unittest
 
 from tests.helper import OTHER_KINDS, PromiseCase
-from tests.stand_in import (
-    AGREED, HIDDEN, NOT_NUMBERS, QUARREL, REDUCED, SAMPLES, SEVERAL, StandIn, exact, observer_of, pair_of, room_of,
+from tests.scenery import (
+    AGREED, HIDDEN, NOT_NUMBERS, QUARREL, REDUCED, SAMPLES, SEVERAL, exact, observer_of, pair_of, room_of, room_with,
     some_rooms, within,
 )
 from wagerroom import sources
@@ -19,7 +19,7 @@ ONE = (1, 1)
 def rooms():
     """Rooms with regions with a source and without."""
     found = list(SAMPLES)
-    found += some_rooms(1, 60)
+    found += some_rooms(1, 100)
     found += some_rooms(2, 30, of_one_mind=True)
     return found
 
@@ -128,7 +128,7 @@ class SourceTest(PromiseCase):
     def test_absent_cases(self):
         self.gives(("source", ((1, 3), (2, 3))), within(source, REDUCED), 0)
         self.gives(("source", (ONE,)), within(source, REDUCED), 1)
-        whole = StandIn(*REDUCED.observers)
+        whole = room_with(*REDUCED.observers)
         self.assertEqual(self.call(within(source, whole), 0)[0], "walk")
         self.assertTrue(is_bad(HIDDEN, (0, 1, 2), self.call(within(source, HIDDEN), 0)[1]))
 
@@ -155,15 +155,15 @@ class SourceTest(PromiseCase):
     def test_twelve_cases_and_six_observers(self):
         weights = (1, 5, 2, 8, 3, 1, 1, 4, 9, 2, 6, 7)
         believer = Believer((0,) * 12, weights)
-        room = StandIn(*[believer] * 6)
+        room = room_with(*[believer] * 6)
         wanted = tuple(pair_of(exact((weight, sum(weights)))) for weight in weights)
         self.gives(("source", wanted), within(source, room), 0)
-        room = StandIn(*[believer] * 5, Observer.even((0,) * 12))
+        room = room_with(*[believer] * 5, Observer.even((0,) * 12))
         self.assertTrue(is_bad(room, room.cases, self.call(within(source, room), 0)[1]))
         self.assertEqual(len(self.call(within(shortest_walk, room), 0)), 2)
 
     def test_observers_of_all_classes(self):
-        room = StandIn(
+        room = room_with(
             Believer((0, 0, 1), (1, 1, 5)),
             Recorder((0, 1, 1), (ONE, (1, 3), (2, 3))),
             Diarist((0, 1, 0), (1, 9, 2)),
@@ -172,14 +172,14 @@ class SourceTest(PromiseCase):
 
     def test_answers_follow_the_odds(self):
         observer = observer_of("0:1/2 1:1/2")
-        room = StandIn(observer, observer_of("0:1/3 1:2/3"))
+        room = room_with(observer, observer_of("0:1/3 1:2/3"))
         self.assertEqual(source(room, 0)[0], "walk")
         observer.odds = ((1, 3), (2, 3))
         self.gives(("source", ((1, 3), (2, 3))), within(source, room), 0)
         self.gives(None, within(shortest_walk, room), 0)
 
     def test_answers_follow_the_present_cases(self):
-        room = StandIn(*REDUCED.observers)
+        room = room_with(*REDUCED.observers)
         self.assertEqual(source(room, 0)[0], "walk")
         room.cases = (0, 1, 3)
         self.gives(("source", ((1, 3), (2, 3))), within(source, room), 0)
@@ -283,14 +283,14 @@ class CertifiesTest(PromiseCase):
     def test_walks_in_another_region(self):
         walk = source(SEVERAL, 2)[1]
         self.gives([False, False, True], lambda: [certifies(SEVERAL, region, ("walk", walk)) for region in range(3)])
-        two = StandIn(observer_of("0:1/2 1:1/2 | 2:1/2 3:1/2"), observer_of("0:1/3 1:2/3 | 2:1/3 3:2/3"))
+        two = room_with(observer_of("0:1/2 1:1/2 | 2:1/2 3:1/2"), observer_of("0:1/3 1:2/3 | 2:1/3 3:2/3"))
         self.gives(True, within(certifies, two), 1, ("walk", ((0, 2, 3), (1, 3, 2))))
         self.gives(False, within(certifies, two), 0, ("walk", ((0, 2, 3), (1, 3, 2))))
         self.gives(False, within(certifies, two), 1, ("walk", ((0, 0, 1), (1, 1, 0))))
 
     def test_walks_through_absent_cases(self):
         walk = ((0, 2, 3), (2, 3, 2))
-        self.gives(True, within(certifies, StandIn(*REDUCED.observers)), 0, ("walk", walk))
+        self.gives(True, within(certifies, room_with(*REDUCED.observers)), 0, ("walk", walk))
         for region in range(2):
             self.gives(False, within(certifies, REDUCED), region, ("walk", walk))
 
@@ -363,7 +363,7 @@ class WalkProductTest(PromiseCase):
         self.gives((2, 1), within(walk_product, REDUCED), ((0, 0, 3),))
         for walk in (((0, 0, 2),), ((0, 2, 3),), ((1, 2, 2),), ((0, 0, 3), (0, 3, 2)), ((1, 2, 1), (1, 1, 1))):
             self.refuses(InvalidWalkError, within(walk_product, REDUCED), walk)
-            self.call(within(walk_product, StandIn(*REDUCED.observers)), walk)
+            self.call(within(walk_product, room_with(*REDUCED.observers)), walk)
 
     def test_other_values(self):
         step = (0, 0, 1)
@@ -427,7 +427,7 @@ class ShortestWalkTest(PromiseCase):
             one = Observer(tuple(case // 2 for case in range(many)), ((1, 3), (2, 3)) * pairs)
             labels = (0,) + tuple((case + 1) // 2 for case in range(1, many - 1)) + (0,)
             even = Observer(labels, ((1, 2),) * many)
-            room = StandIn(one, even)
+            room = room_with(one, even)
             walk = self.call(within(shortest_walk, room), 0)
             self.assertTrue(is_bad(room, room.cases, walk))
             self.assertEqual(len(walk), many)

@@ -4,9 +4,9 @@ import unittest
 from fractions import Fraction
 
 from tests.helper import OTHER_KINDS, PromiseCase
-from tests.stand_in import (
-    AGREED, HIDDEN, NOT_NUMBERS, QUARREL, REDUCED, SAMPLES, SEVERAL, StandIn, exact, numbers, observer_of, pair_of,
-    room_of, some_rooms, within,
+from tests.scenery import (
+    AGREED, HIDDEN, NOT_NUMBERS, QUARREL, REDUCED, SAMPLES, SEVERAL, exact, numbers, observer_of, pair_of, room_of,
+    room_with, some_rooms, within,
 )
 from wagerroom import wagers
 from wagerroom.errors import InvalidAmountsError, InvalidFractionError, InvalidRegionError
@@ -58,7 +58,8 @@ def expected_by_hand(room, cases, amounts):
     for number, observer in enumerate(room.observers):
         odds = dict(zip(room.cases, map(exact, room.present_odds(number))))
         row = dict(zip(cases, map(exact, amounts[number])))
-        labels = sorted({observer.labels[case] for case in cases})
+        # In the order of the least present cases, which need not be that of all cases.
+        labels = list(dict.fromkeys(observer.labels[case] for case in cases))
         found.append(tuple(
             pair_of(sum(odds[case] * row[case] for case in cases if observer.labels[case] == label))
             for label in labels
@@ -119,7 +120,7 @@ class WagerTest(PromiseCase):
         self.gives(ONLY, within(wager, HIDDEN), 0)
         self.gives(None, within(wager, REDUCED), 0)
         self.gives(None, within(wager, REDUCED), 1)
-        whole = StandIn(*REDUCED.observers)
+        whole = room_with(*REDUCED.observers)
         self.is_good(whole, 0, self.call(within(wager, whole), 0), ONE)
 
     def test_several_regions(self):
@@ -129,20 +130,20 @@ class WagerTest(PromiseCase):
 
     def test_one_object_as_several_observers(self):
         one = observer_of("0:1/2 1:1/2")
-        room = StandIn(one, one, observer_of("0:1/3 1:2/3"))
+        room = room_with(one, one, observer_of("0:1/3 1:2/3"))
         self.is_good(room, 0, self.call(within(wager, room), 0), ONE)
-        self.gives(None, within(wager, StandIn(one, one)), 0)
+        self.gives(None, within(wager, room_with(one, one)), 0)
 
     def test_twelve_cases_and_six_observers(self):
         source_of_numbers = numbers(8)
         observers = [
             Believer((0,) * 12, tuple(next(source_of_numbers) % 1000 + 1 for _ in range(12))) for _ in range(6)
         ]
-        room = StandIn(*observers)
+        room = room_with(*observers)
         self.is_good(room, 0, self.call(within(wager, room), 0), ONE)
 
     def test_observers_of_all_classes(self):
-        room = StandIn(
+        room = room_with(
             Believer((0, 0, 1), (1, 1, 5)),
             Recorder((0, 1, 1), (ONE, (1, 3), (2, 3))),
             Diarist((0, 1, 0), (3, 9, 3)),
@@ -232,7 +233,7 @@ class IsWagerTest(PromiseCase):
         self.gives(False, within(is_wager, AGREED), 0, ONLY)
 
     def test_the_wager_of_another_region(self):
-        two = StandIn(observer_of("0:1/2 1:1/2 | 2:1/2 3:1/2"), observer_of("0:1/3 1:2/3 | 2:2/3 3:1/3"))
+        two = room_with(observer_of("0:1/2 1:1/2 | 2:1/2 3:1/2"), observer_of("0:1/3 1:2/3 | 2:2/3 3:1/3"))
         for region in range(2):
             amounts = wager(two, region)
             self.gives(True, within(is_wager, two), region, amounts)
@@ -240,7 +241,7 @@ class IsWagerTest(PromiseCase):
 
     def test_present_odds_count(self):
         self.gives(True, within(is_wager, HIDDEN), 0, ONLY)
-        self.gives(False, within(is_wager, StandIn(*HIDDEN.observers)), 0, ONLY)
+        self.gives(False, within(is_wager, room_with(*HIDDEN.observers)), 0, ONLY)
 
     def test_wrong_regions(self):
         for room in (AGREED, SEVERAL, REDUCED):
@@ -302,6 +303,16 @@ class ExpectedTest(PromiseCase):
         self.gives((((5, 1),), ((4, 1), (5, 1)), (ONE, (2, 1))), within(expected, REDUCED), 0, amounts)
         self.gives(((ONE,), ((2, 1),), ((3, 1),)), within(expected, REDUCED), 1, ((ONE,), ((2, 1),), ((3, 1),)))
 
+    def test_parts_are_ordered_by_their_least_present_cases(self):
+        room = room_of("0:1/2 3:1/2 | 1:1/2 2:1/2", "0:1/4 1:1/4 2:1/4 3:1/4", cases=(1, 2, 3))
+        amounts = (((1, 1), (2, 1), (5, 1)), ((0, 1), (0, 1), (3, 1)))
+        self.gives((((3, 2), (5, 1)), (ONE,)), within(expected, room), 0, amounts)
+        room.cases = (2, 3)
+        self.gives((((2, 1), (5, 1)), ((3, 2),)), within(expected, room), 0, (amounts[0][1:], amounts[1][1:]))
+        room.cases = (0, 1, 2, 3)
+        amounts = (((4, 1),) + amounts[0], ((1, 1),) + amounts[1])
+        self.gives((((9, 2), (3, 2)), (ONE,)), within(expected, room), 0, amounts)
+
     def test_many_rooms(self):
         source_of_numbers = numbers(9)
         for room in rooms():
@@ -317,12 +328,12 @@ class ExpectedTest(PromiseCase):
                 self.gives(wanted, within(expected, room), number, amounts)
 
     def test_large_amounts(self):
-        room = StandIn(Observer.even((0, 0)))
+        room = room_with(Observer.even((0, 0)))
         self.gives((((HUGE + 3, 2),),), within(expected, room), 0, (((HUGE, 1), (3, 1)),))
 
     def test_answers_follow_the_odds(self):
         observer = observer_of("0:1/2 1:1/2")
-        room = StandIn(observer)
+        room = room_with(observer)
         self.gives((((2, 1),),), within(expected, room), 0, ((ONE, (3, 1)),))
         observer.odds = ((1, 4), (3, 4))
         self.gives((((5, 2),),), within(expected, room), 0, ((ONE, (3, 1)),))

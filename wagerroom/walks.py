@@ -13,7 +13,7 @@ def is_step(scene, value):
     observer, case, after = value
     if not 0 <= observer < len(scene.observers):
         return False
-    if case not in scene.cases or after not in scene.cases:
+    if case not in scene.present or after not in scene.present:
         return False
     labels = scene.observers[observer].labels
     return labels[case] == labels[after]
