@@ -55,6 +55,65 @@ def present_odds_by_hand(room, number):
     )
 
 
+def parts_by_hand(room):
+    """The parts of a room by the words of points 41 and 91: their names and their present cases."""
+    found = {}
+    for number, observer in enumerate(room.observers):
+        for part in observer.parts:
+            inside = tuple(case for case in part if case in room.cases)
+            if inside:
+                found[number, inside[0]] = inside
+    return found
+
+
+def pieces_by_hand(room, cases, left_out=()):
+    """The pieces into which the links of all parts but these divide the cases of a region.
+
+    Each with weights that agree with all odds but those of these parts, or with
+    None if there are none.
+    """
+    links = [
+        (one, other, exact(odds[other]) / exact(odds[one]))
+        for name, part in parts_by_hand(room).items()
+        for odds in [room.observers[name[0]].odds]
+        for one, other in itertools.permutations(part, 2)
+        if name not in left_out
+    ]
+    pieces = []
+    for root in cases:
+        if any(root in piece for piece, _ in pieces):
+            continue
+        worth = {root: Fraction(1)}
+        border = [root]
+        for case in border:
+            for one, other, ratio in links:
+                if one == case and other not in worth:
+                    worth[other] = worth[one] * ratio
+                    border.append(other)
+        fits = all(worth[one] * ratio == worth[other] for one, other, ratio in links if one in worth)
+        pieces.append((tuple(sorted(worth)), worth if fits else None))
+    return pieces
+
+
+def can_be_mended_by_hand(room, cases, names):
+    """Whether the odds of these parts of a region can be mended together."""
+    return all(worth is not None for _, worth in pieces_by_hand(room, cases, names))
+
+
+def with_present_odds(room, replaced):
+    """A room in which these parts, given by their names, have these present odds."""
+    found = []
+    for number, observer in enumerate(room.observers):
+        odds = list(observer.odds)
+        for name, part in parts_by_hand(room).items():
+            if name[0] == number and name in replaced:
+                whole = sum(exact(odds[case]) for case in part)
+                for case, pair in zip(part, replaced[name]):
+                    odds[case] = pair_of(exact(pair) * whole)
+        found.append(Observer(observer.labels, tuple(odds)))
+    return room_with(*found, cases=room.cases)
+
+
 def observer_of(line):
     """An Observer, written as a line of point 110."""
     odds = {}
@@ -117,6 +176,21 @@ def some_labels(source, many):
     for _ in range(many - 1):
         labels.append(next(source) % min(max(labels) + 2, 4))
     return tuple(labels)
+
+
+def nearly_of_one_mind(seed, count, *, cases=7, observers=4, others=3):
+    """Rooms whose observers have their odds of one distribution, but for up to so many cases of observers."""
+    source = numbers(seed)
+    for room in some_rooms(seed, count, of_one_mind=True, cases=cases, observers=observers):
+        found = list(room.observers)
+        for _ in range(next(source) % (others + 1)):
+            number = next(source) % len(found)
+            weights = [exact(pair) for pair in found[number].odds]
+            weights[next(source) % len(weights)] *= next(source) % 2 + 2
+            labels = found[number].labels
+            sums = [sum(weights[case] for case in part) for part in found[number].parts]
+            found[number] = Observer(labels, tuple(pair_of(worth / sums[label]) for worth, label in zip(weights, labels)))
+        yield room_with(*found, cases=room.cases)
 
 
 def weighed(labels, weights, kind=Observer):

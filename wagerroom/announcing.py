@@ -89,8 +89,9 @@ def public_partitions(room, event):
     while border:
         reached = []
         for labels in border:
-            news[labels] = news_in(scene, event, labels)
-            for observer, changed in news[labels]:
+            found = news_in(scene, event, labels)
+            news[labels] = found
+            for observer, changed in found:
                 if changed not in ways:
                     ways[changed] = ways[labels] + (observer,)
                     reached.append(changed)

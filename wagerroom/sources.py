@@ -3,19 +3,17 @@
 from wagerroom.errors import InvalidWalkError
 from wagerroom.ratios import is_row, shares
 from wagerroom.scenes import Scene
-from wagerroom.walks import bad_walk, is_bad_walk, is_walk, steps_in, walk_ratio, walks_from
+from wagerroom.walks import bad_walk, is_bad_walk, is_walk, steps_in, walk_ratio, walks_from, weights_or_walk
 
 
 def source(room, region):
     """Return ("source", fractions), or ("walk", steps) with a bad walk if there is no source."""
     scene = Scene(room)
     cases = scene.region_cases(region)
-    steps = steps_in(scene.parts_in(cases))
-    walks = walks_from(cases[0], steps)
-    walk = bad_walk(scene, walks, steps)
+    weights, walk = weights_or_walk(scene, cases, steps_in(scene.parts_in(cases)))
     if walk is not None:
         return ("walk", walk)
-    return ("source", shares([walk_ratio(scene, walks[case]) for case in cases]))
+    return ("source", shares([weights[case] for case in cases]))
 
 
 def certifies(room, region, value):

@@ -81,15 +81,37 @@ def backwards(walk):
     return tuple([(observer, after, case) for observer, case, after in reversed(walk)])
 
 
+def weights_along(scene, walks):
+    """Return the weight that the walks give to each case to which they lead, 1 where they begin."""
+    return {case: walk_ratio(scene, walks[case]) for case in walks}
+
+
 def bad_walk(scene, walks, steps):
     """Return a shortest bad walk among those that begin where the given ones do, or None."""
-    # The walks give each case a weight. If all steps agree with the weights, no
-    # walk is bad. A bad walk has a step that disagrees, and the shortest way to
-    # its case and back from its next one is that of the walks.
-    weights = {case: walk_ratio(scene, walks[case]) for case in walks}
+    # If all steps agree with the weights that the walks give, no walk is bad. A
+    # bad walk has a step that disagrees, and the shortest way to its case and
+    # back from its next one is that of the walks.
+    weights = weights_along(scene, walks)
     found = []
     for step in steps:
         case, after = step[1], step[2]
-        if product(weights[case], step_ratio(scene, step)) != weights[after]:
+        if case in weights and product(weights[case], step_ratio(scene, step)) != weights[after]:
             found.append(walks[case] + (step,) + backwards(walks[after]))
     return min(found, key=len, default=None)
+
+
+def weights_or_walk(scene, roots, steps):
+    """Return (weights, None), or (weights, walk) with a bad walk of these steps.
+
+    The steps lead to pieces of the region. If there is no bad walk, each case
+    of a piece has a weight, and the first root in the piece has the weight 1.
+    """
+    weights = {}
+    for root in roots:
+        if root not in weights:
+            walks = walks_from(root, steps)
+            walk = bad_walk(scene, walks, steps)
+            if walk is not None:
+                return (weights, walk)
+            weights.update(weights_along(scene, walks))
+    return (weights, None)
