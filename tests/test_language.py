@@ -117,6 +117,21 @@ class LanguageTest(unittest.TestCase):
         methods, attributes = methods_and_attributes()
         self.assertEqual(methods & attributes, set())
 
+    def test_no_class_stores_an_attribute_that_is_a_property_of_another(self):
+        properties, stored = {}, []
+        for _, _, tree in sources():
+            for kind in ast.walk(tree):
+                if isinstance(kind, ast.ClassDef):
+                    for node in ast.walk(kind):
+                        if isinstance(node, ast.FunctionDef) and any(map(is_property, node.decorator_list)):
+                            properties.setdefault(node.name, set()).add(kind.name)
+                        if isinstance(node, ast.Attribute) and isinstance(node.ctx, ast.Store):
+                            stored.append((node.attr, kind.name, {base.id for base in kind.bases}))
+        self.assertEqual(set(properties), {"odds", "weights", "cases"})
+        for name, kind, bases in stored:
+            if name in properties:
+                self.assertTrue(properties[name] & ({kind, "Observer", "Believer"} if bases else {kind}), name)
+
     def test_imports_and_classes_keep_their_names(self):
         for name, _, tree in sources():
             bound = [alias.name for node in tree.body if isinstance(node, ast.ImportFrom) for alias in node.names]
